@@ -30,6 +30,12 @@ def refuse_no_row(thing):
         raise NoRow("a row is a list of -1, 0 and 1, its last one not 0")
 
 
+def refuse_no_number(thing):
+    """Raise NoNumber if a thing is no whole number."""
+    if not is_whole(thing):
+        raise NoNumber("a whole number is needed")
+
+
 def worth(row):
     """Tell the number that a row is worth."""
     refuse_no_row(row)
@@ -58,8 +64,7 @@ def is_lean(row):
 
 def lean(number):
     """Tell the one lean row that is worth a number."""
-    if not is_whole(number):
-        raise NoNumber("a whole number is needed")
+    refuse_no_number(number)
     if number == 0:
         return []
     # The number is more - half, taken place by place; equal places cancel out.
