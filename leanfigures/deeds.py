@@ -1,7 +1,7 @@
 """Deeds: texts of doublings and steps from 0 on, what they cost, and the least ones."""
 
 from leanfigures.errors import NoCost, NoDeeds
-from leanfigures.figures import is_whole, lean, refuse_no_number, weight
+from leanfigures.figures import is_whole, lean_parts, refuse_no_number
 
 MOST_COST = 50
 
@@ -39,50 +39,58 @@ def least(number, double, step):
     refuse_no_number(number)
     refuse_no_cost(double)
     refuse_no_cost(step)
-    size = abs(number)
-    tried = []
-    # With more doublings than the size has places the first one would double 0, or it would
-    # double 1 to step back to 1: for nothing.
-    for doublings in range(fewest_doublings(size, double, step), size.bit_length() + 1):
-        steps = (size >> doublings) + weight(lean(rest(size, doublings)))
-        tried.append((doublings * double + steps * step, doublings))
-    cost, chosen = min(tried)
-    return cost, written(number, chosen)
+    up, down = ("u", "w") if number > 0 else ("w", "u")
+    first, row = begun(abs(number), (double - 1) // step)
+    deeds = up * first + row.replace("0", "d").replace("1", "d" + up).replace("2", "d" + down)
+    return len(row) * double + (len(deeds) - len(row)) * step, deeds
 
 
 # Why least finds the least deeds. Between the doublings and behind the last one, two steps
 # are dearer than one step ahead of the doubling before them. So the least deeds for a size
-# begin with some steps, and behind each doubling there is one step or none: a row. With so
-# many doublings these first steps are size >> doublings, or one more. To begin with the
-# fewer steps is never dearer: one figure more in the row makes up for the step. And of the
-# rows that are worth what is left the lean one has the least weight. If it has a figure at
-# the very place of the first steps, this is the one step more.
+# begin with some steps, and behind each doubling there is one step or none: a row.
+#
+# To go to 2 * part, or one more, by steps alone is cheaper than by part, a doubling and the
+# odd step just if part * step is below double. The greatest such part is half. So up to
+# most = 2 * half + 1 steps alone cost least; to any size beyond, deeds that end with a
+# doubling, or a doubling and a step, cost no more than steps alone.
+#
+# Ahead of the last k doublings stands size >> k or one more. While size >> k is above most
+# one doubling more is never dearer. Then stands first, at most most, or first + 1, and steps
+# alone lead there at the least cost, but for most + 1: to that lead half + 1 steps and a
+# doubling, for more than most steps cost and for no more than most + 1 steps cost.
+#
+# With first, the row is worth what is left of the size; with first + 1, 1 << doublings less.
+# If the lean row of what is left has a figure at the very place of first, this is the step
+# to first + 1; no row has less weight, so first is not cheaper. If it has none there, turn a
+# 1 at the place below to -1 or, if there is none, put -1 at the place of first: this is again
+# a lean row, worth 1 << doublings less. Its weight is no less, and first + 1 is dearer than
+# first: it is not cheaper.
 
 
-def fewest_doublings(size, double, step):
-    """Tell how many doublings are the fewest that need be tried for a size."""
-    # To begin with 2 * half steps, or one more, is cheaper than with half steps, a doubling
-    # and the odd step only if half * step is below double: this is the greatest such half.
-    half = (double - 1) // step
-    return max(0, size.bit_length() - 1 - half.bit_length())
-
-
-def rest(size, doublings):
-    """Tell what the first steps, after so many doublings, leave of a size."""
-    return size - (size >> doublings << doublings)
-
-
-def written(number, doublings):
-    """Tell the deeds with so many doublings, and then the fewest steps, for a number."""
-    up, down = ("u", "w") if number > 0 else ("w", "u")
-    size = abs(number)
-    row = lean(rest(size, doublings))
+def begun(size, half):
+    """Tell how many steps the least deeds for a size begin with, and the row of the others."""
+    most = 2 * half + 1
+    if size <= most:
+        return size, ""
+    doublings = size.bit_length() - most.bit_length()
+    if size >> doublings > most:
+        doublings = doublings + 1
     first = size >> doublings
+    row = digits_of(size - (first << doublings), doublings)
     if len(row) > doublings:
-        first = first + 1
-    row = row[:doublings] + [0] * (doublings - len(row))
-    signs = {0: "d", 1: "d" + up, -1: "d" + down}
-    return up * first + "".join([signs[figure] for figure in reversed(row)])
+        first, row = first + 1, row[1:]
+    if first > most:
+        first, row = half + 1, "0" + row
+    return first, row
+
+
+def digits_of(number, many):
+    """Tell the lean row of a number as a text: its last figure first, 2 for -1, filled up by 0."""
+    ups, downs = lean_parts(number)
+    # Read at sixteens, the two can be added without a carry: all places are told at once.
+    ups_apart = int(f"{ups:b}", 16)
+    downs_apart = int(f"{downs:b}", 16)
+    return f"{ups_apart + 2 * downs_apart:x}".zfill(many)
 
 
 def refuse_no_deeds(thing):

@@ -67,6 +67,13 @@ def lean(number):
     refuse_no_number(number)
     if number == 0:
         return []
+    ups, downs = lean_parts(number)
+    many = max(ups, downs).bit_length()
+    return [int(up) - int(down) for up, down in zip(places(ups, many), places(downs, many))]
+
+
+def lean_parts(number):
+    """Tell the numbers that have a binary 1 just where the lean row of a number has 1, and -1."""
     # The number is more - half, taken place by place; equal places cancel out.
     # Place k of more is n[k] ^ n[k + 1] ^ carry, and place k of half is n[k + 1]:
     # they differ just where n[k] is not the carry. There the next carry is n[k + 1],
@@ -74,9 +81,7 @@ def lean(number):
     half = number >> 1
     more = number + half
     apart = more ^ half
-    ups = places(more & apart, apart.bit_length())
-    downs = places(half & apart, apart.bit_length())
-    return [int(up) - int(down) for up, down in zip(ups, downs)]
+    return more & apart, half & apart
 
 
 def places(number, many):

@@ -1,11 +1,13 @@
 import unittest
 from heapq import heappop, heappush
 from itertools import product
+from time import process_time
 
 from helper import NEITHER, NUMBERS, ROWS, TEXTLESS, numbers_tried, refuses
 from leanfigures import deeds
 from leanfigures.deeds import cost_of, least, led
 from leanfigures.errors import NoCost, NoDeeds, NoNumber
+from leanfigures.figures import lean
 
 # Deeds, and by hand the number they lead to, how many doublings and how many steps they are.
 BY_HAND = [
@@ -48,6 +50,13 @@ PAIRS = [
     (4, 1), (5, 1), (8, 1), (25, 1), (26, 1), (3, 49),
 ]
 
+# The pairs of costs for numbers of eleven hundred places, and such numbers.
+LONG_PAIRS = [(1, 1), (50, 1), (1, 50), (50, 50), (7, 3)]
+LONG_NUMBERS = [
+    sign * (middle + away)
+    for middle in (2 ** 1100 // 3, 2 ** 1100) for away in range(-12, 13) for sign in (1, -1)
+]
+
 
 def done(signs):
     """The number to which deeds lead, straight from the document's words."""
@@ -86,6 +95,17 @@ def worked_out(number, double, step):
         start = size >> place
         cost, next_cost = (odd, last) if start % 2 else (even, odd)
     return cost
+
+
+def shortest_times(functions, many):
+    """The shortest time of so many runs of each function, the functions taking turns."""
+    times = [[] for _ in functions]
+    for _ in range(many):
+        for at, function in enumerate(functions):
+            before = process_time()
+            function()
+            times[at].append(process_time() - before)
+    return [min(told) for told in times]
 
 
 class Led(unittest.TestCase):
@@ -269,6 +289,59 @@ class Least(unittest.TestCase):
         self.assertEqual(least(5, 50, 50)[0], 200)
         self.assertEqual(cost_of("ud", 50, 50), 100)
         self.assertEqual(cost_of("ud", 1, 1), 2)
+
+
+class LeastOfElevenHundredPlaces(unittest.TestCase):
+    def test_they_lead_to_the_number_at_the_told_cost(self):
+        for pair in LONG_PAIRS:
+            for number in LONG_NUMBERS:
+                cost, text = least(number, *pair)
+                self.assertTrue(led(text) == number)
+                self.assertEqual(cost_of(text, *pair), cost)
+
+    def test_a_step_from_a_neighbour_costs_no_less(self):
+        for double, step in LONG_PAIRS:
+            for number in LONG_NUMBERS:
+                cost = least(number, double, step)[0]
+                self.assertLessEqual(cost, least(number + 1, double, step)[0] + step)
+                self.assertLessEqual(cost, least(number - 1, double, step)[0] + step)
+
+    def test_a_doubling_of_the_half_costs_no_less(self):
+        for double, step in LONG_PAIRS:
+            for number in LONG_NUMBERS:
+                if number % 2 == 0:
+                    half = least(number // 2, double, step)[0]
+                    self.assertLessEqual(least(number, double, step)[0], half + double)
+
+    def test_asked_again_the_same(self):
+        asked = [(number, *pair) for pair in LONG_PAIRS for number in LONG_NUMBERS]
+        told = [least(*words) for words in asked]
+        self.assertTrue(told == [least(*words) for words in asked])
+        self.assertTrue(told[::-1] == [least(*words) for words in asked[::-1]])
+
+    def test_they_cost_what_is_worked_out_from_the_first_places_on(self):
+        for pair in LONG_PAIRS:
+            for number in LONG_NUMBERS:
+                self.assertEqual(least(number, *pair)[0], worked_out(number, *pair))
+
+
+class LeastInTime(unittest.TestCase):
+    def check(self, numbers, pairs, many):
+        # Beside lean of the same numbers, as machines differ. It took five times as long and more.
+        told, rows = shortest_times([
+            lambda: [least(number, *pair) for pair in pairs for number in numbers],
+            lambda: [lean(number) for _ in pairs for number in numbers],
+        ], many)
+        self.assertLess(told, 2 * rows)
+
+    def test_numbers_of_very_many_places(self):
+        self.check([2 ** 110000 // 3, -(2 ** 110000) + 1], [(50, 1)], 3)
+
+    def test_numbers_of_eleven_hundred_places(self):
+        self.check(LONG_NUMBERS, LONG_PAIRS, 5)
+
+    def test_small_numbers(self):
+        self.check(list(range(-500, 501)), LONG_PAIRS, 9)
 
 
 class Interface(unittest.TestCase):
